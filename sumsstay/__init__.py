@@ -1,0 +1,1 @@
+"""Tables whose sums stay."""
