@@ -51,32 +51,35 @@ def call_table(line, base, rows, columns, cells):
 def call_weights(line, cell_weight, sum_weight):
     if not all_within([cell_weight, sum_weight], 0, 9):
         return [OUT_OF_RANGE]
-    if line.table is None:
+    table = line.table
+    if table is None:
         return [NOTHING_BEGUN]
-    line.table.cell_weight = cell_weight
-    line.table.sum_weight = sum_weight
+    table.cell_weight = cell_weight
+    table.sum_weight = sum_weight
     return [0]
 
 
 def call_keep(line, number, amount):
     if not (within(number, 0, 79) and within(amount, 0, 1000000)):
         return [OUT_OF_RANGE]
-    if line.table is None:
+    table = line.table
+    if table is None:
         return [NOTHING_BEGUN]
-    if number >= told_count(line.table):
+    if number >= told_count(table):
         return [NOT_THERE]
-    line.table.kept[number] = amount
+    table.kept[number] = amount
     return [0]
 
 
 def call_free(line, number):
     if not within(number, 0, 79):
         return [OUT_OF_RANGE]
-    if line.table is None:
+    table = line.table
+    if table is None:
         return [NOTHING_BEGUN]
-    if number not in line.table.kept:
+    if number not in table.kept:
         return [NOT_THERE]
-    line.table.kept.pop(number)
+    table.kept.pop(number)
     return [0]
 
 
