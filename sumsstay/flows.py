@@ -15,6 +15,14 @@ class Rest:
         self.room = room
 
 
+class Told:
+    """The amounts of a net's told flow, and no nodes; or None, and the nodes of its told set, rising."""
+
+    def __init__(self, amounts, nodes):
+        self.amounts = amounts
+        self.nodes = nodes
+
+
 class Ways:
     """For each node what the cheapest way to it costs (None without one), and that way's last rest."""
 
@@ -122,23 +130,21 @@ def levelled(net):
     return amounts
 
 
-def told_flow(net):
-    """The told flow's amounts, or None if there's no flow."""
-    amounts = levelled(net)
-    if nodes_with_more(left_at_nodes(net, amounts)):
-        return None
-    return amounts
-
-
-def told_set(net):
-    """The told set's nodes, rising; empty if there's a flow."""
-    amounts = levelled(net)
-    more = nodes_with_more(left_at_nodes(net, amounts))
-    # What's left too much is stuck in the nodes that rests lead to from there. Every set that
-    # is overfull by the most holds these: leaving one out would leave a rest across its edge.
+def stuck_nodes(net, amounts, more):
+    """The nodes that what's left too much can be sent to, rising; more are the nodes where it's left."""
+    # Every set that is overfull by the most holds these: leaving one out would leave a rest across its edge.
     no_prices = [0] * len(net.arcs)
     ways = cheapest_ways(len(net.supplies), more, rests_beside(net, amounts, no_prices))
     return [node for node, cost in enumerate(ways.costs) if cost is not None]
+
+
+def told_of(net):
+    """The told flow of the net, or its told set."""
+    amounts = levelled(net)
+    more = nodes_with_more(left_at_nodes(net, amounts))
+    if more:
+        return Told(None, stuck_nodes(net, amounts, more))
+    return Told(amounts, [])
 
 
 def told_prices(net, amounts):

@@ -28,6 +28,10 @@ def left_at_nodes(net, amounts):
     return left
 
 
+def cost_of(net, amounts):
+    return sum([arc.price * amount for arc, amount in zip(net.arcs, amounts)])
+
+
 def is_flow(net, amounts):
     if len(amounts) != len(net.arcs):
         return False

@@ -5,6 +5,7 @@ NOTHING_BEGUN = -2
 NOT_THERE = -3
 NO_TREE = -5
 NOT_AS_MANY = -6
+NOT_LEVEL = -7
 
 
 def within(number, least, greatest):
@@ -13,6 +14,11 @@ def within(number, least, greatest):
 
 def all_within(numbers, least, greatest):
     return all([within(number, least, greatest) for number in numbers])
+
+
+def are_cells(numbers, most):
+    """Whether they may be handed in as at most so many cells, or as what a box's cells are rounded to."""
+    return len(numbers) <= most and all_within(numbers, 0, 1000000)
 
 
 def are_amounts(numbers):

@@ -4,12 +4,11 @@ What's refused is looked for in the order of the refusals' numbers, the one near
 and nothing is changed ahead of the last of them.
 """
 
-from sumsstay.flows import told_flow
-from sumsstay.flows import told_prices
-from sumsstay.flows import told_set
+from sumsstay.flows import told_of
+from sumsstay.netanswers import check_answer
+from sumsstay.netanswers import prices_answer
+from sumsstay.netanswers import shows_answer
 from sumsstay.nets import is_flow
-from sumsstay.nets import overfull_by
-from sumsstay.nets import proves_least
 from sumsstay.refusals import NOTHING_BEGUN
 from sumsstay.refusals import NOT_AS_MANY
 from sumsstay.refusals import NOT_THERE
@@ -17,8 +16,8 @@ from sumsstay.refusals import NO_TREE
 from sumsstay.refusals import OUT_OF_RANGE
 from sumsstay.refusals import all_within
 from sumsstay.refusals import are_amounts
+from sumsstay.refusals import are_cells
 from sumsstay.refusals import are_nodes
-from sumsstay.refusals import is_set_of_nodes
 from sumsstay.refusals import within
 from sumsstay.tables import Table
 from sumsstay.tables import how_far
@@ -33,12 +32,8 @@ def may_be_tree(numbers):
     return within(len(numbers), 1, 8) and all_within(numbers, 0, 7)
 
 
-def may_be_cells(numbers):
-    return len(numbers) <= 36 and all_within(numbers, 0, 1000000)
-
-
 def call_table(line, base, rows, columns, cells):
-    if not (within(base, 1, 100) and may_be_tree(rows) and may_be_tree(columns) and may_be_cells(cells)):
+    if not (within(base, 1, 100) and may_be_tree(rows) and may_be_tree(columns) and are_cells(cells, 36)):
         return [OUT_OF_RANGE]
     if not (is_tree(rows) and is_tree(columns)):
         return [NO_TREE]
@@ -95,21 +90,16 @@ def call_arcs(line):
 def call_round(line):
     if line.table is None:
         return [NOTHING_BEGUN]
-    net = net_of(line.table)
-    amounts = told_flow(net)
-    if amounts is None:
-        return [0, 0] + told_set(net)
-    return [0, 1, how_far(line.table, amounts)] + amounts
+    told = told_of(net_of(line.table))
+    if told.amounts is None:
+        return [0, 0] + told.nodes
+    return [0, 1, how_far(line.table, told.amounts)] + told.amounts
 
 
 def call_prices(line):
     if line.table is None:
         return [NOTHING_BEGUN]
-    net = net_of(line.table)
-    amounts = told_flow(net)
-    if amounts is None:
-        return [0, 0]
-    return [0, 1] + told_prices(net, amounts)
+    return prices_answer(net_of(line.table))
 
 
 def call_check(line, amounts, node_prices):
@@ -117,10 +107,7 @@ def call_check(line, amounts, node_prices):
         return [OUT_OF_RANGE]
     if line.table is None:
         return [NOTHING_BEGUN]
-    net = net_of(line.table)
-    if not is_flow(net, amounts):
-        return [0, 0, 0]
-    return [0, 1, int(proves_least(net, amounts, node_prices))]
+    return check_answer(net_of(line.table), amounts, node_prices)
 
 
 def call_shows(line, nodes):
@@ -128,11 +115,7 @@ def call_shows(line, nodes):
         return [OUT_OF_RANGE]
     if line.table is None:
         return [NOTHING_BEGUN]
-    net = net_of(line.table)
-    if not is_set_of_nodes(nodes, len(net.supplies)):
-        return [NOT_THERE]
-    by = overfull_by(net, nodes)
-    return [0, int(by > 0), by]
+    return shows_answer(net_of(line.table), nodes)
 
 
 def call_truth(line):
@@ -149,3 +132,16 @@ def call_distance(line, amounts):
     if len(amounts) != told_count(line.table):
         return [NOT_AS_MANY]
     return [0, how_far(line.table, amounts), int(is_flow(net_of(line.table), amounts))]
+
+
+def call_cell(line, row_place, column_place, number):
+    if not (all_within([row_place, column_place], 0, 35) and within(number, 0, 1000000)):
+        return [OUT_OF_RANGE]
+    table = line.table
+    if table is None:
+        return [NOTHING_BEGUN]
+    width = len(leaves_of(table.columns))
+    if row_place >= len(leaves_of(table.rows)) or column_place >= width:
+        return [NOT_THERE]
+    table.cells[row_place * width + column_place] = number
+    return [0]

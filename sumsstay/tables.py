@@ -1,5 +1,6 @@
 """Tables by two trees: what's told in them, and their nets."""
 
+from sumsstay.multiples import units_beside
 from sumsstay.nets import Arc
 from sumsstay.nets import Net
 
@@ -81,11 +82,10 @@ def ends_of_arcs(table):
 
 
 def rounded_arc(ends, base, true, weight):
-    least = true // base
-    greatest = (true + base - 1) // base
+    units = units_beside(true, base)
     # Of a multiple both are the same and neither is away from it: its price comes out as 0.
-    price = ((greatest * base - true) - (true - least * base)) * weight
-    return Arc(ends[0], ends[1], least, greatest, price)
+    price = ((units[1] * base - true) - (true - units[0] * base)) * weight
+    return Arc(ends[0], ends[1], units[0], units[1], price)
 
 
 def net_of(table):

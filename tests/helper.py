@@ -1,4 +1,4 @@
-"""Calls by name, their answers one by one, and a slow second look at small tables."""
+"""Calls by name, their answers one by one, and a slow second look at tables, nets and boxes."""
 
 import itertools
 import random
@@ -32,6 +32,10 @@ ARCS = [4]
 ROUND = [5]
 PRICES = [6]
 TRUTH = [9]
+FLOW = [15]
+FLOWPRICES = [16]
+FLOWNONE = [18]
+SIZES = [21]
 
 
 def check(amounts, prices):
@@ -44,6 +48,34 @@ def shows(nodes):
 
 def distance(amounts):
     return [10] + counted(amounts)
+
+
+def cell(row, column, number):
+    return [11, row, column, number]
+
+
+def cube(base, sizes, cells):
+    return [12, base] + list(sizes) + counted(cells)
+
+
+def cubecheck(base, sizes, cells, numbers):
+    return [13, base] + list(sizes) + counted(cells) + counted(numbers)
+
+
+def net(count, supplies, numbers):
+    return [14, count] + counted(supplies) + counted(numbers)
+
+
+def flowcheck(amounts, prices):
+    return [17] + counted(amounts) + counted(prices)
+
+
+def flowshows(nodes):
+    return [19] + counted(nodes)
+
+
+def cost(amounts):
+    return [20] + counted(amounts)
 
 
 def ask(*calls):
@@ -78,8 +110,88 @@ def stands_under(above, node, top):
     return node == top
 
 
-class Picture:
-    """A table looked at slowly: by the document's words, and through all there is."""
+class Slow:
+    """A net looked at slowly: by the document's words, and through all there is.
+
+    nodes is how many there are, supplies holds one for each, and arcs() gives five numbers for each arc.
+    """
+
+    def overfull(self, nodes, arcs=None):
+        total = sum(self.supplies[node] for node in nodes)
+        for tail, head, low, high, price in self.arcs() if arcs is None else arcs:
+            total -= high if tail in nodes and head not in nodes else 0
+            total += low if head in nodes and tail not in nodes else 0
+        return total
+
+    def told_set(self):
+        """The one that lies within all others that are overfull by the most, and by how much."""
+        every = [set(group) for size in range(self.nodes + 1)
+                 for group in itertools.combinations(range(self.nodes), size)]
+        arcs = self.arcs()
+        sums = [self.overfull(group, arcs) for group in every]
+        most = max(sums)
+        fullest = [group for group, by in zip(every, sums) if by == most]
+        within = set.intersection(*fullest)
+        if within not in fullest:
+            raise AssertionError("none lies within all others: %r" % (fullest,))
+        return most, sorted(within)
+
+    def rests(self, amounts):
+        found = []
+        for amount, (tail, head, low, high, price) in zip(amounts, self.arcs()):
+            if amount < high:
+                found.append((tail, head, price))
+            if amount > low:
+                found.append((head, tail, -price))
+        return found
+
+    def told_prices(self, amounts):
+        """The least of 0 and what any way that ends at the node costs: goes every way without a node twice."""
+        rests = self.rests(amounts)
+        least = [0] * self.nodes
+        ways = [(node, 0, frozenset([node])) for node in range(self.nodes)]
+        while ways:
+            node, cost, been = ways.pop()
+            least[node] = min(least[node], cost)
+            for tail, head, price in rests:
+                if tail == node and head not in been:
+                    ways.append((head, cost + price, been | {head}))
+        return least
+
+    def proves(self, amounts, prices):
+        for amount, (tail, head, low, high, price) in zip(amounts, self.arcs()):
+            d = price + prices[tail] - prices[head]
+            if (d < 0 and amount != high) or (d > 0 and amount != low):
+                return False
+        return True
+
+    def lesser_row_as_cheap(self, amounts, prices):
+        """Whether some flow ahead of one that costs least, as a row, costs the same; prices prove that one least.
+
+        Another that costs the same differs by round trips along rests that cost nothing; one of them
+        lessens the first arc that differs, and touches no arc before it.
+        """
+        arcs = self.arcs()
+        for k, (tail, head, low, high, price) in enumerate(arcs):
+            if amounts[k] > low and price + prices[tail] - prices[head] == 0:
+                if self.leads_on(k + 1, tail, head, amounts, prices):
+                    return True
+        return False
+
+    def leads_on(self, first, start, goal, amounts, prices):
+        steps = []
+        for amount, (tail, head, low, high, price) in list(zip(amounts, self.arcs()))[first:]:
+            if price + prices[tail] - prices[head] == 0:
+                steps += [(tail, head)] if amount < high else []
+                steps += [(head, tail)] if amount > low else []
+        been = {start}
+        for step in range(self.nodes):
+            been |= {head for tail, head in steps if tail in been}
+        return goal in been
+
+
+class Picture(Slow):
+    """A table looked at slowly."""
 
     def __init__(self, base, rows, columns, cells, cell_weight=1, sum_weight=1, kept=None):
         self.base, self.rows, self.columns, self.cells = base, rows, columns, cells
@@ -90,6 +202,7 @@ class Picture:
         self.first_cell = len(rows)
         self.truth = self.sums(cells)
         self.nodes = len(rows) + len(columns)
+        self.supplies = [0] * self.nodes
 
     def calls(self):
         """The calls that make it, one by one."""
@@ -165,76 +278,83 @@ class Picture:
             found.append((tail, head, low, high, price))
         return found
 
-    def overfull(self, nodes, arcs=None):
-        total = 0
-        for tail, head, low, high, price in arcs or self.arcs():
-            total -= high if tail in nodes and head not in nodes else 0
-            total += low if head in nodes and tail not in nodes else 0
-        return total
 
-    def told_set(self):
-        """The one that lies within all others that are overfull by the most, and by how much."""
-        every = [set(group) for size in range(self.nodes + 1)
-                 for group in itertools.combinations(range(self.nodes), size)]
-        arcs = self.arcs()
-        sums = [self.overfull(group, arcs) for group in every]
-        most = max(sums)
-        fullest = [group for group, by in zip(every, sums) if by == most]
-        within = [group for group in fullest if all(group <= other for other in fullest)]
-        return most, sorted(within[0])
+class NetPicture(Slow):
+    """A net that's handed in by itself, looked at slowly."""
 
-    def rests(self, amounts):
-        found = []
-        for amount, (tail, head, low, high, price) in zip(amounts, self.arcs()):
-            if amount < high:
-                found.append((tail, head, price))
-            if amount > low:
-                found.append((head, tail, -price))
+    def __init__(self, supplies, arcs):
+        self.supplies, self.five = supplies, arcs
+        self.nodes = len(supplies)
+
+    def arcs(self):
+        return self.five
+
+    def call(self):
+        return net(self.nodes, self.supplies, [number for arc in self.five for number in arc])
+
+    def ask(self, *calls):
+        """The answers to calls on it."""
+        found = ask(self.call(), *calls)
+        if found[0] != [0, len(self.five)]:
+            raise AssertionError("the net isn't as it was meant: %r" % (found[0],))
+        return found[1:]
+
+    def left(self, amounts):
+        left = list(self.supplies)
+        for node in range(self.nodes):
+            left[node] += sum(amount for amount, arc in zip(amounts, self.five) if arc[1] == node)
+            left[node] -= sum(amount for amount, arc in zip(amounts, self.five) if arc[0] == node)
+        return left
+
+    def cost(self, amounts):
+        return sum(amount * arc[4] for amount, arc in zip(amounts, self.five))
+
+    def is_flow(self, amounts):
+        return (len(amounts) == len(self.five) and not any(self.left(amounts))
+                and all(arc[2] <= amount <= arc[3] for amount, arc in zip(amounts, self.five)))
+
+    def flows(self):
+        spans = [range(arc[2], arc[3] + 1) for arc in self.five]
+        return [list(amounts) for amounts in itertools.product(*spans) if self.is_flow(amounts)]
+
+    def told_flow(self):
+        """What it costs, and its amounts; None without one."""
+        return min([(self.cost(amounts), amounts) for amounts in self.flows()], default=None)
+
+
+class BoxPicture:
+    """A box looked at slowly."""
+
+    def __init__(self, base, sizes, cells):
+        self.base, self.sizes, self.cells = base, sizes, cells
+        self.indexes = list(itertools.product(*[range(size) for size in sizes]))
+        self.truth = self.sums(cells)
+
+    def call(self):
+        return cube(self.base, self.sizes, self.cells)
+
+    def check(self, numbers):
+        return cubecheck(self.base, self.sizes, self.cells, numbers)
+
+    def sums(self, numbers):
+        """By the indexes that are held, with None for one that goes through: what's summed up."""
+        found = {}
+        for index, number in zip(self.indexes, numbers):
+            for holds in itertools.product([False, True], repeat=3):
+                held = tuple(place if hold else None for place, hold in zip(index, holds))
+                found[held] = found.get(held, 0) + number
         return found
 
-    def told_prices(self, amounts):
-        """The least of 0 and what any way that ends at the node costs: goes every way without a node twice."""
-        rests = self.rests(amounts)
-        least = [0] * self.nodes
-        ways = [(node, 0, frozenset([node])) for node in range(self.nodes)]
-        while ways:
-            node, cost, been = ways.pop()
-            least[node] = min(least[node], cost)
-            for tail, head, price in rests:
-                if tail == node and head not in been:
-                    ways.append((head, cost + price, been | {head}))
-        return least
+    def is_rounding(self, numbers):
+        if len(numbers) != len(self.cells):
+            return False
+        rounded = self.sums(numbers)
+        return all(abs(self.base * rounded[held] - true) < self.base for held, true in self.truth.items())
 
-    def proves(self, amounts, prices):
-        for amount, (tail, head, low, high, price) in zip(amounts, self.arcs()):
-            d = price + prices[tail] - prices[head]
-            if (d < 0 and amount != high) or (d > 0 and amount != low):
-                return False
-        return True
-
-    def lesser_row_as_near(self, amounts, prices):
-        """Whether some rounding ahead of a nearest one, as a row, is as near; prices prove that one nearest.
-
-        Another as near differs by round trips along rests that cost nothing; one of them lessens
-        the first arc that differs, and touches no arc before it.
-        """
-        arcs = self.arcs()
-        for k, (tail, head, low, high, price) in enumerate(arcs):
-            if amounts[k] > low and price + prices[tail] - prices[head] == 0:
-                if self.leads_on(k + 1, tail, head, amounts, prices):
-                    return True
-        return False
-
-    def leads_on(self, first, start, goal, amounts, prices):
-        steps = []
-        for amount, (tail, head, low, high, price) in list(zip(amounts, self.arcs()))[first:]:
-            if price + prices[tail] - prices[head] == 0:
-                steps += [(tail, head)] if amount < high else []
-                steps += [(head, tail)] if amount > low else []
-        been = {start}
-        for step in range(self.nodes):
-            been |= {head for tail, head in steps if tail in been}
-        return goal in been
+    def roundings(self):
+        spans = [[low for low in (cell // self.base, cell // self.base + 1) if abs(self.base * low - cell) < self.base]
+                 for cell in self.cells]
+        return [list(numbers) for numbers in itertools.product(*spans) if self.is_rounding(numbers)]
 
 
 def some_tree(source, most):
@@ -278,3 +398,54 @@ def large_pictures():
             pair = source.choice([(1, 1), (0, 1), (1, 0), (0, 0), (9, 9), (2, 3)])
             found.append(Picture(base, rows, columns, cells, *pair))
     return found
+
+
+def some_net(seed, most_nodes=4, most_arcs=5, widest=3):
+    """A small net, the same for the same seed; often it has a flow."""
+    source = random.Random(seed)
+    nodes = source.randint(1, most_nodes)
+    arcs = []
+    for k in range(source.randint(0, most_arcs)):
+        low = source.randint(-3, 3)
+        price = source.choice([0, 0, source.randint(-2, 2), source.randint(-1000, 1000)])
+        arcs.append((source.randrange(nodes), source.randrange(nodes), low, low + source.randint(0, widest), price))
+    supplies = [0] * nodes
+    for tail, head, low, high, price in arcs:
+        amount = source.randint(low, high)
+        supplies[tail] += amount
+        supplies[head] -= amount
+    if source.randrange(3) == 0:
+        by = source.randint(1, 3)
+        supplies[source.randrange(nodes)] += by
+        supplies[source.randrange(nodes)] -= by
+    return NetPicture(supplies, arcs)
+
+
+def large_net(seed):
+    """A net of 12 nodes and 30 arcs with wide ranges."""
+    source = random.Random(seed)
+    arcs = []
+    for k in range(30):
+        low, high = sorted([source.randint(-1000, 1000), source.randint(-1000, 1000)])
+        if source.randrange(3):
+            low, high = -1000, 1000
+        price = source.choice([0, source.randint(-3, 3), source.randint(-1000, 1000)])
+        arcs.append((source.randrange(12), source.randrange(12), low, high, price))
+    supplies = [0] * 12
+    for k in range(source.choice([0, 6, 40])):
+        one, other, by = source.randrange(12), source.randrange(12), source.randint(0, 300)
+        if supplies[one] + by <= 1000 and supplies[other] - by >= -1000:
+            supplies[one] += by
+            supplies[other] -= by
+    return NetPicture(supplies, arcs)
+
+
+def some_box(seed):
+    source = random.Random(seed)
+    sizes = source.choice([sizes for sizes in itertools.product([1, 2, 3], repeat=3)
+                           if sizes[0] * sizes[1] * sizes[2] <= 12])
+    base = source.choice([1, 2, 2, 3, 5, 10, 100])
+    greatest = source.choice([base, 3 * base, 1000000])
+    cells = [source.choice([source.randint(0, greatest), source.randint(0, greatest) // base * base])
+             for k in range(sizes[0] * sizes[1] * sizes[2])]
+    return BoxPicture(base, sizes, cells)

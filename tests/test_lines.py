@@ -5,7 +5,8 @@ import io
 import random
 import unittest
 
-from helper import (ARCS, PRICES, ROUND, TRUTH, ask, check, distance, free, keep, large_pictures, shows, table, weights)
+from helper import (ARCS, FLOW, FLOWNONE, FLOWPRICES, PRICES, ROUND, SIZES, TRUTH, ask, check, cost, cube, cubecheck,
+                    distance, flowcheck, flowshows, free, keep, large_net, large_pictures, net, shows, table, weights)
 from sumsstay.census import answers
 
 WHOLE = [
@@ -25,6 +26,22 @@ WHOLE = [
     3, 0,
     3, 0,
     10, 1, 1,
+    11, 0, 0, 6,
+    9,
+    12, 10, 2, 1, 1, 2, 5, 5,
+    13, 10, 2, 1, 1, 2, 5, 5, 2, 1, 1,
+    15,
+    14, 2, 2, 3, -3, 5, 0, 1, 0, 4, -2,
+    15,
+    16,
+    17, 1, 3, 2, 0, -2,
+    18,
+    19, 1, 0,
+    20, 1, 2,
+    21,
+    14, 2, 2, 3, -3, 0,
+    15,
+    18,
 ]
 WHOLE_GIVEN = [
     2, 0, 2,
@@ -43,6 +60,22 @@ WHOLE_GIVEN = [
     1, 0,
     1, -3,
     1, -6,
+    1, 0,
+    3, 0, 6, 6,
+    4, 0, 2, 0, 1,
+    2, 0, 0,
+    1, -2,
+    2, 0, 1,
+    4, 0, 1, -6, 3,
+    4, 0, 1, 0, -2,
+    3, 0, 1, 1,
+    2, 0, 0,
+    3, 0, 0, -1,
+    5, 0, -4, 0, 1, -1,
+    8, 0, 1, 1, 1, 0, 1, 2, 1,
+    2, 0, 0,
+    3, 0, 0, 0,
+    4, 0, 1, 3, 0,
 ]
 
 
@@ -74,7 +107,7 @@ class Lines(unittest.TestCase):
 
     def test_nothing_is_kept_from_one_time_to_the_next(self):
         answers(WHOLE)
-        self.assertEqual(answers([9]), [1, -2])
+        self.assertEqual(answers([9, 15, 21]), [1, -2, 1, -2, 8, 0, 0, 0, 0, 0, 0, 0, 0])
         first = answers(WHOLE)
         first.clear()
         self.assertEqual(answers(WHOLE), WHOLE_GIVEN)
@@ -94,6 +127,10 @@ class Lines(unittest.TestCase):
         found = ask(table(5, many, many, many), check(many, many), shows(many), distance(many), table(5, [0], [0], [4]),
                     check(many, []), check([], many), shows(many), distance(many), TRUTH)
         self.assertEqual(found, [[-1]] * 4 + [[0, 2]] + [[-1]] * 4 + [[0, 4, 4]])
+        found = ask(cube(5, (1, 1, 1), many), cubecheck(5, (1, 1, 1), many, many), net(1, many, many), net(1, [0], []),
+                    flowcheck(many, []), flowcheck([], many), flowshows(many), cost(many), cubecheck(1, (1, 1, 1), [4], many),
+                    SIZES)
+        self.assertEqual(found, [[-1]] * 3 + [[0, 0]] + [[-1]] * 5 + [[0, 0, 0, 0, 0, 1, 1, 0]])
 
     def test_numbers_in_lists_are_not_read_as_calls(self):
         found = ask(table(5, [0], [0], [9]), check([9, 9, 9], [4, 4]), distance([5, 5]), shows([1]), TRUTH)
@@ -112,6 +149,15 @@ class Long(unittest.TestCase):
             self.assertEqual(len(found[1]), 3 + size)
             self.assertEqual(found[30:], [found[30]] * 30)
             self.assertEqual(len(found[30]), 2 + picture.nodes)
+
+    def test_sixty_calls_on_the_largest_nets(self):
+        for seed in range(8):
+            picture = large_net(seed)
+            found = ask(picture.call(), *[FLOW] * 20, *[FLOWPRICES] * 20, *[FLOWNONE] * 19)
+            self.assertEqual(found[0], [0, 30])
+            self.assertEqual(found[1:], [found[1]] * 20 + [found[21]] * 20 + [found[41]] * 19)
+            again = ask(*[picture.call(), FLOW] * 30)
+            self.assertEqual(again, found[:2] * 30)
 
     def test_sixty_largest_tables_behind_one_another(self):
         picture = large_pictures()[0]

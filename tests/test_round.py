@@ -80,7 +80,7 @@ class Round(unittest.TestCase):
         self.assertTrue(picture.is_rounding(amounts))
         self.assertEqual(rounded[2], picture.far(amounts))
         self.assertTrue(picture.proves(amounts, prices))
-        self.assertFalse(picture.lesser_row_as_near(amounts, prices))
+        self.assertFalse(picture.lesser_row_as_cheap(amounts, prices))
         self.assertEqual(picture.ask(check(amounts, prices)), [[0, 1, 1]])
 
 
